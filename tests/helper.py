@@ -1,9 +1,12 @@
-"""What the tests share: asking for a refusal, and things of every kind."""
+"""What the tests share: asking for a refusal, things of every kind, and queues and hours made by a rule."""
 
+import itertools
 import unittest
 from unittest import mock
 
 from latestturn import errors
+from latestturn.hours import Hours
+from latestturn.verdicts import Verdict
 
 ERROR_NAMES = [
     "NoName", "NoNumber", "NoHours", "NoLine", "TooMany", "Doubled", "Taken", "NoTicket",
@@ -43,6 +46,94 @@ NO_NAMES = [
 ]
 
 
+def long_queue(many, left=None):
+    """So many tickets, of each of which so much is left, or 1 to 20 in turn."""
+    return [(f"t{number}", left or number % 20 + 1) for number in range(many)]
+
+
+def plain_run(queue, hours, begin):
+    """The run, told another way: ticket by ticket, each at the first turns at which those ahead leave a counter."""
+    served = {}
+    for name, left in queue:
+        turn = begin
+        while left:
+            if len(served.get(turn, [])) < hours.at(turn):
+                served.setdefault(turn, []).append(name)
+                left -= 1
+            turn += 1
+    return [(turn, served.get(turn, [])) for turn in range(begin, max(served, default=begin - 1) + 1)]
+
+
+class Rule:
+    """Numbers that look like any, but are the same ones each time."""
+
+    def __init__(self, state):
+        self.state = state
+
+    def below(self, bound):
+        self.state = (self.state * 6364136223846793005 + 1442695040888963407) % 2 ** 64
+        return (self.state >> 33) % bound
+
+    def one_of(self, things):
+        return things[self.below(len(things))]
+
+    def queue(self, most_tickets, most_left):
+        return [(f"t{number}", 1 + self.below(most_left)) for number in range(self.below(most_tickets + 1))]
+
+    def hours(self):
+        rows = [(1 + self.below(5), self.below(5)) for number in range(self.below(6))]
+        return Hours(rows, 1 + self.below(4))
+
+    def begin(self, hours):
+        return self.one_of([0, self.below(hours.end() + 1), hours.end(), hours.end() + self.below(9), 10 ** 5])
+
+
+def made_halls():
+    """Many tuples (queue, hours, begin): all quite small ones, and some of each greater size."""
+    made = [([], 1), ([], 3), ([(1, 0)], 2), ([(1, 2), (2, 0)], 1), ([(2, 1), (1, 3)], 2)]
+    for many in range(4):
+        for lefts in itertools.product((1, 2, 3), repeat=many):
+            for hours in [Hours(rows, rest) for rows, rest in made]:
+                for begin in (0, 1, 7):
+                    yield list(zip("abc", lefts)), hours, begin
+    rule = Rule(7)
+    for most_tickets, most_left, times in ((5, 4, 200), (12, 20, 60), (60, 20, 20)):
+        for number in range(times):
+            hours = rule.hours()
+            yield rule.queue(most_tickets, most_left), hours, rule.begin(hours)
+    for hours in (Hours([(9, 0), (5, 8), (20, 1)], 3), Hours([], 1), Hours([], 8)):
+        yield long_queue(60), hours, 0
+        yield long_queue(60, 20), hours, 11
+        yield long_queue(60, 1), hours, 10 ** 5
+
+
+def frozen(thing):
+    """The thing in a form that doesn't change with it, its kinds told too."""
+    if isinstance(thing, Hours):
+        return ("Hours", frozen(thing.rows()), thing.rest())
+    if isinstance(thing, Verdict):
+        return (type(thing).__name__, frozen(vars(thing)))
+    if isinstance(thing, dict):
+        return ("dict", [(key, frozen(value)) for key, value in thing.items()])
+    if isinstance(thing, (list, tuple)):
+        return (type(thing).__name__, [frozen(part) for part in thing])
+    return thing
+
+
+def spoil(thing):
+    """Changes every list and dict in the thing, however deep."""
+    if isinstance(thing, (list, tuple)):
+        for part in thing:
+            spoil(part)
+    if isinstance(thing, dict):
+        for part in thing.values():
+            spoil(part)
+        thing.clear()
+    if isinstance(thing, list):
+        thing.clear()
+        thing.append("spoilt")
+
+
 class RefusalCase(unittest.TestCase):
     def refusal(self, error_name, call, *handed):
         """The refusal of that very class, straight under HallError, that the call meets."""
@@ -66,3 +157,27 @@ class RefusalCase(unittest.TestCase):
                 self.assertIs(type(getattr(refused, field)), type(fields[field]))
             else:
                 self.assertIs(getattr(refused, field), fields[field])
+
+
+class SharingCase(RefusalCase):
+    def shares_nothing(self, call, handed):
+        """Point 2: handed is a function that makes anew what the call is handed."""
+        given = handed()
+        before = frozen(given)
+        told = call(*given)
+        first = frozen(told)
+        self.assertEqual(frozen(given), before, "what was handed in is changed")
+        again = call(*given)
+        self.assertEqual(frozen(again), first, "told otherwise when asked again")
+        spoil(told)
+        self.assertEqual(frozen(given), before, "told was what was handed in")
+        self.assertEqual(frozen(again), first, "told was what had been told before")
+        self.assertEqual(frozen(call(*given)), first, "told was what is kept")
+        spoil(given)
+        self.assertEqual(frozen(again), first, "changing it later changed something")
+
+    def refuses_and_keeps(self, error_name, call, queue, hours, *handed, **fields):
+        """Like refuses; and the queue and the hours that were handed in are as they were."""
+        before = frozen((queue, hours))
+        self.refuses(error_name, call, queue, hours, *handed, **fields)
+        self.assertEqual(frozen((queue, hours)), before)

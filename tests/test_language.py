@@ -206,6 +206,17 @@ class Names(unittest.TestCase):
             self.assertIn(node.attr, known, where)
             self.assertNotIn(node.attr, BANNED_NAMES, where)
 
+    def test_methods_and_values_are_not_called_like_those_of_python(self):
+        taken = {name for kind in (str, int, list, dict, set, bytes) for name in dir(kind)}
+        self.assertFalse((own_methods() - UNDERSCORED - METHODS_OF_PYTHON - {"add", "discard"}) & taken)
+        values = set("count index title find get join lower upper split strip copy add".split())
+        self.assertFalse((own_values() - values) & (taken | {"args"}))
+
+    def test_no_method_stands_twice(self):
+        for node, where in nodes(ast.ClassDef):
+            names = [part.name for part in node.body if isinstance(part, ast.FunctionDef)]
+            self.assertEqual(len(names), len(set(names)), where)
+
     def test_no_method_with_two_underscores_but_those_that_may_be(self):
         for node, where in nodes(ast.FunctionDef):
             if node.name.startswith("_"):

@@ -7,14 +7,10 @@ from unittest import mock
 from latestturn.queues import (
     check_queue, joined, left_of, lifted, names_of, place_of, placed, shortened, without,
 )
-from tests.helper import NO_NAMES, NO_NUMBERS, RefusalCase
+from tests.helper import NO_NAMES, NO_NUMBERS, RefusalCase, long_queue
 
 QUEUE = [("ann", 3), ("bo", 1), ("cy", 20), ("dee", 7)]
 NO_LEFT = NO_NUMBERS + [0, -1, 21, 22, 100, -10 ** 30, 10 ** 30, 10 ** 5000]
-
-
-def long_queue(many):
-    return [(f"t{number}", number % 20 + 1) for number in range(many)]
 
 
 class Checking(RefusalCase):
