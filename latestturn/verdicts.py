@@ -1,5 +1,6 @@
 """Verdicts: whether all promises hold, or which is the first that does not."""
 
+from latestturn.errors import NotKept
 from latestturn.runs import ends_of, run_of
 
 
@@ -76,6 +77,12 @@ def first_late(queue, ends, promises):
         if name in promises and ends[name] > promises[name]:
             return name
     return None
+
+
+def check_kept(queue, hours, begin, promises):
+    late = first_late(queue, ends_of(run_of(queue, hours, begin)), promises)
+    if late is not None:
+        raise NotKept(late)
 
 
 def settled(queue, hours, begin, promises):

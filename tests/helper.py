@@ -6,7 +6,7 @@ from unittest import mock
 
 from latestturn import errors
 from latestturn.hours import Hours
-from latestturn.verdicts import Verdict
+from latestturn.verdicts import Granted, Late, NoRoom, Verdict
 
 ERROR_NAMES = [
     "NoName", "NoNumber", "NoHours", "NoLine", "TooMany", "Doubled", "Taken", "NoTicket",
@@ -64,6 +64,16 @@ def plain_run(queue, hours, begin):
     return [(turn, served.get(turn, [])) for turn in range(begin, max(served, default=begin - 1) + 1)]
 
 
+def plainly_late(queue, hours, begin, promises):
+    """What point 62 tells of a Late one, or None where all promises hold."""
+    run = plain_run(queue, hours, begin)
+    for name, left in queue:
+        turn = [turn for turn, names in run if name in names][-1]
+        if name in promises and not turn <= promises[name]:
+            return ("late", name, promises[name], turn, run)
+    return None
+
+
 class Rule:
     """Numbers that look like any, but are the same ones each time."""
 
@@ -83,6 +93,15 @@ class Rule:
     def hours(self):
         rows = [(1 + self.below(5), self.below(5)) for number in range(self.below(6))]
         return Hours(rows, 1 + self.below(4))
+
+    def promises(self, latest):
+        """Numbers about the latest turns, some of them just kept, some missed, some not there."""
+        near = {name: turn + self.one_of([-1, 0, 0, 0, 1, 2, 9]) for name, turn in latest.items()}
+        return {name: turn for name, turn in near.items() if self.below(4)}
+
+    def kept_promises(self, latest):
+        """Like promises, but none of them missed."""
+        return {name: max(turn, latest[name]) for name, turn in self.promises(latest).items()}
 
     def begin(self, hours):
         return self.one_of([0, self.below(hours.end() + 1), hours.end(), hours.end() + self.below(9), 10 ** 5])
@@ -121,7 +140,9 @@ def frozen(thing):
 
 
 def spoil(thing):
-    """Changes every list and dict in the thing, however deep."""
+    """Changes every list and dict in the thing, however deep, those in the fields of verdicts too."""
+    if isinstance(thing, Verdict):
+        spoil(tuple(vars(thing).values()))
     if isinstance(thing, (list, tuple)):
         for part in thing:
             spoil(part)
@@ -181,3 +202,36 @@ class SharingCase(RefusalCase):
         before = frozen((queue, hours))
         self.refuses(error_name, call, queue, hours, *handed, **fields)
         self.assertEqual(frozen((queue, hours)), before)
+
+
+class VerdictCase(SharingCase):
+    def is_of(self, verdict, queue, hours, begin):
+        self.assertIs(type(verdict.queue), list)
+        self.assertEqual((verdict.queue, verdict.begin), (queue, begin))
+        self.assertEqual(frozen(verdict.hours), frozen(hours))
+
+    def is_granted(self, verdict, queue, hours, begin):
+        self.assertIs(type(verdict), Granted)
+        self.is_of(verdict, queue, hours, begin)
+        self.assertIs(verdict.granted(), True)
+        self.assertEqual(verdict.word(), "granted")
+        self.assertEqual(verdict.told(), ("granted",))
+
+    def is_no_room(self, verdict, turn, queue, hours, begin):
+        self.assertIs(type(verdict), NoRoom)
+        self.is_of(verdict, queue, hours, begin)
+        self.assertEqual(verdict.turn, turn)
+        self.assertIs(verdict.granted(), False)
+        self.assertEqual(verdict.word(), "no counter")
+        self.assertEqual(verdict.told(), ("no counter", turn))
+
+    def is_late(self, verdict, name, number, turn, run, queue, hours, begin):
+        self.assertIs(type(verdict), Late)
+        self.is_of(verdict, queue, hours, begin)
+        self.assertEqual((verdict.name, verdict.promised, verdict.turn, verdict.run), (name, number, turn, run))
+        self.assertIs(verdict.granted(), False)
+        self.assertEqual(verdict.word(), "late")
+        self.assertEqual(verdict.told(), ("late", name, number, turn, run))
+
+    def holds_with(self, verdict, promises, told):
+        self.assertIs(verdict.holds(promises), told, promises)

@@ -7,7 +7,7 @@ from latestturn.hours import Hours
 from latestturn.latest import latest_all
 from latestturn.runs import run_of
 from latestturn.verdicts import Granted, Late, NoRoom, Verdict, settled
-from tests.helper import Rule, SharingCase, frozen, long_queue, made_halls, plain_run, spoil
+from tests.helper import Rule, VerdictCase, frozen, long_queue, made_halls, plain_run, plainly_late, spoil
 
 FAR = 10 ** 30
 QUEUE = [("ann", 3), ("bo", 1), ("cy", 2), ("dee", 1)]
@@ -26,42 +26,17 @@ def promised(**numbers):
     return {**LATEST, **numbers}
 
 
-def plainly_late(queue, hours, begin, promises):
-    """What point 62 tells of a Late one, or None where all promises hold."""
-    run = plain_run(queue, hours, begin)
-    for name, left in queue:
-        turn = [turn for turn, names in run if name in names][-1]
-        if name in promises and not turn <= promises[name]:
-            return ("late", name, promises[name], turn, run)
-    return None
-
-
-class VerdictCase(SharingCase):
-    def is_of(self, verdict, queue, hours, begin):
-        self.assertIs(type(verdict.queue), list)
-        self.assertEqual((verdict.queue, verdict.begin), (queue, begin))
-        self.assertEqual(frozen(verdict.hours), frozen(hours))
+class HallCase(VerdictCase):
+    """What a verdict is of is that of this file's queue, but where it is told otherwise."""
 
     def is_granted(self, verdict, queue=QUEUE, hours=HOURS, begin=0):
-        self.assertIs(type(verdict), Granted)
-        self.is_of(verdict, queue, hours, begin)
-        self.assertIs(verdict.granted(), True)
-        self.assertEqual(verdict.word(), "granted")
-        self.assertEqual(verdict.told(), ("granted",))
+        VerdictCase.is_granted(self, verdict, queue, hours, begin)
 
     def is_late(self, verdict, name, number, turn, run=RUN, queue=QUEUE, hours=HOURS, begin=0):
-        self.assertIs(type(verdict), Late)
-        self.is_of(verdict, queue, hours, begin)
-        self.assertEqual((verdict.name, verdict.promised, verdict.turn, verdict.run), (name, number, turn, run))
-        self.assertIs(verdict.granted(), False)
-        self.assertEqual(verdict.word(), "late")
-        self.assertEqual(verdict.told(), ("late", name, number, turn, run))
-
-    def holds_with(self, verdict, promises, told):
-        self.assertIs(verdict.holds(promises), told, promises)
+        VerdictCase.is_late(self, verdict, name, number, turn, run, queue, hours, begin)
 
 
-class Settling(VerdictCase):
+class Settling(HallCase):
     def test_just_kept(self):
         self.is_granted(settled(QUEUE, HOURS, 0, LATEST))
 
@@ -160,7 +135,7 @@ class Settling(VerdictCase):
                     self.assertLessEqual(max(turn for turn, names in verdict.run if name in names), promises[name])
 
 
-class PlainVerdicts(VerdictCase):
+class PlainVerdicts(HallCase):
     def test_by_hand(self):
         for queue in ([], QUEUE, long_queue(60)):
             for begin in (0, 3, 10 ** 5):
@@ -181,7 +156,7 @@ class PlainVerdicts(VerdictCase):
             self.assertEqual(kind.__bases__, (Verdict,))
 
 
-class GrantedVerdicts(VerdictCase):
+class GrantedVerdicts(HallCase):
     def test_by_hand(self):
         for queue in ([], QUEUE, long_queue(60)):
             for begin in (0, 3, 10 ** 5):
@@ -215,16 +190,10 @@ class GrantedVerdicts(VerdictCase):
         self.is_granted(verdict)
 
 
-class NoRoomVerdicts(VerdictCase):
+class NoRoomVerdicts(HallCase):
     def test_by_hand(self):
         for turn in (0, 1, 7, 10 ** 5, -1, FAR):
-            verdict = NoRoom(QUEUE, HOURS, 3, turn)
-            self.assertIs(type(verdict), NoRoom)
-            self.is_of(verdict, QUEUE, HOURS, 3)
-            self.assertEqual(verdict.turn, turn)
-            self.assertIs(verdict.granted(), False)
-            self.assertEqual(verdict.word(), "no counter")
-            self.assertEqual(verdict.told(), ("no counter", turn))
+            self.is_no_room(NoRoom(QUEUE, HOURS, 3, turn), turn, QUEUE, HOURS, 3)
 
     def test_it_holds_where_there_is_no_counter(self):
         hours = Hours([(2, 0), (3, 1), (2, 0)], 1)
@@ -242,7 +211,7 @@ class NoRoomVerdicts(VerdictCase):
         self.holds_with(NoRoom(QUEUE, hours, 0, 10 ** 5 - 1), {}, False)
 
 
-class LateVerdicts(VerdictCase):
+class LateVerdicts(HallCase):
     def late(self, name="cy", number=4, turn=5, run=RUN, queue=QUEUE, hours=HOURS, begin=0):
         return Late(queue, hours, begin, name, number, turn, run)
 
@@ -341,7 +310,7 @@ class LateVerdicts(VerdictCase):
                         self.holds_with(verdict, {name: number, queue[0][0]: begin - 1}, False)
 
 
-class NothingIsShared(VerdictCase):
+class NothingIsShared(HallCase):
     def test_settling(self):
         for promises in PROMISES:
             for queue in (QUEUE, [], long_queue(60, 2)):
