@@ -92,10 +92,16 @@ class Hours:
         return self.spans[-1][1] if self.spans else 0
 
     def at(self, turn):
-        for start, stop, counters in self.spans:
-            if turn < stop:
-                return counters
-        return self.kept_rest
+        # By halves, as hours with many bookings have many rows, and runs ask at every turn.
+        low = 0
+        high = len(self.spans)
+        while low < high:
+            middle = (low + high) // 2
+            if turn < self.spans[middle][1]:
+                high = middle
+            else:
+                low = middle + 1
+        return self.spans[low][2] if low < len(self.spans) else self.kept_rest
 
     def between(self, first, last):
         # By rows, not by turns: last may be any whole number, however great.

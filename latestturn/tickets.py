@@ -30,6 +30,10 @@ class Ticket:
     def add_number(self, number):
         self.told_numbers.append(number)
 
+    def take_over(self, other):
+        self.turns_had = other.had()
+        self.told_numbers = other.numbers()
+
 
 class Waiting(Ticket):
     def word(self):
@@ -48,3 +52,15 @@ class Served(Ticket):
 class Gone(Ticket):
     def word(self):
         return "gone"
+
+
+def as_served(ticket):
+    other = Served(ticket.name, ticket.most, ticket.came)
+    other.take_over(ticket)
+    return other
+
+
+def as_gone(ticket):
+    other = Gone(ticket.name, ticket.most, ticket.came)
+    other.take_over(ticket)
+    return other

@@ -5,6 +5,7 @@ import unittest
 from unittest import mock
 
 from latestturn import errors
+from latestturn.hall import Hall
 from latestturn.hours import Hours
 from latestturn.verdicts import Granted, Late, NoRoom, Verdict
 
@@ -126,6 +127,21 @@ def made_halls():
         yield long_queue(60, 1), hours, 10 ** 5
 
 
+# Two counters at the turns 0 and 1, none at 2, and one from 3 on.
+HALL_HOURS = Hours([(2, 2), (1, 0)], 1)
+
+# By these hours from turn 0 on: ann and bo, ann and bo, none, ann, cy.
+COMING = [("ann", 3), ("bo", 2), ("cy", 1)]
+
+
+def made_hall(coming=COMING, hours=HALL_HOURS):
+    """A hall at turn 0, into which these came."""
+    hall = Hall(hours)
+    for name, most in coming:
+        hall.come(name, most)
+    return hall
+
+
 def frozen(thing):
     """The thing in a form that doesn't change with it, its kinds told too."""
     if isinstance(thing, Hours):
@@ -137,6 +153,15 @@ def frozen(thing):
     if isinstance(thing, (list, tuple)):
         return (type(thing).__name__, [frozen(part) for part in thing])
     return thing
+
+
+def hall_told(hall):
+    """All that a hall tells, in a form that doesn't change with it."""
+    names, queue = hall.all_names(), hall.queue_now()
+    states = [hall.state_of(name) for name in names]
+    witnesses = [hall.witness_of(name) for name, left in queue]
+    counted = (hall.now_turn(), queue, hall.hours_now(), hall.latest_now(), hall.told_now(), witnesses, names, states)
+    return frozen(counted + (hall.log_told(), hall.bookings_now(), hall.breaks_now()))
 
 
 def spoil(thing):
@@ -235,3 +260,23 @@ class VerdictCase(SharingCase):
 
     def holds_with(self, verdict, promises, told):
         self.assertIs(verdict.holds(promises), told, promises)
+
+
+class HallCase(VerdictCase):
+    def refuses_deed(self, error_name, hall, deed, *handed, **fields):
+        """Like refuses, of a method of the hall; and the hall tells all as before."""
+        before = hall_told(hall)
+        self.refuses(error_name, getattr(hall, deed), *handed, **fields)
+        self.assertEqual(hall_told(hall), before, "what was refused changed something")
+
+    def changes_nothing(self, hall, deed, *handed):
+        """What the deed tells; and the hall tells all as before."""
+        before = hall_told(hall)
+        told = getattr(hall, deed)(*handed)
+        self.assertEqual(hall_told(hall), before, "something was changed")
+        return told
+
+    def has_counters(self, hall, counters):
+        """From the hall's turn on there are so many counters, turn by turn."""
+        now = hall.now_turn()
+        self.assertEqual([hall.hours_now().at(now + turn) for turn in range(len(counters))], counters)

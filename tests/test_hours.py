@@ -239,6 +239,17 @@ class OtherHours(HoursCase):
         self.same_hours(many, ([(1, 0), (2, 1)] * 50)[:-1], 1)
         self.assertEqual((many.end(), many.between(0, 149), many.free(4, 9)), (148, 100, 6))
 
+    def test_counters_at_turns_of_very_many_rows(self):
+        many = Hours([(1, 0), (3, 4)], 5)
+        for number in range(300):
+            many = many.less(1 + 3 * number, 1 + 3 * number + number % 2)
+        for turn in range(1000):
+            due = 0 if turn == 0 else 4 if turn < 4 else 5
+            for number in range(300):
+                due -= 1 + 3 * number <= turn <= 1 + 3 * number + number % 2
+            self.assertEqual(many.at(turn), due, turn)
+        self.assertGreater(len(many.rows()), 500)
+
     def test_all_counters_taken_and_given_back(self):
         hours = Hours([(5, 2)], 3)
         taken = hours.less(3, 6).less(3, 6)

@@ -2,7 +2,7 @@
 
 import unittest
 
-from latestturn.tickets import Gone, Served, Ticket, Waiting
+from latestturn.tickets import Gone, Served, Ticket, Waiting, as_gone, as_served
 from tests.helper import spoil
 
 WORDS = [(Ticket, "ticket"), (Waiting, "waiting"), (Served, "served"), (Gone, "gone")]
@@ -61,6 +61,34 @@ class Making(unittest.TestCase):
             for had in range(most + 1):
                 self.assertEqual((ticket.had(), ticket.left(), ticket.told()[4]), (had, 0, 0))
                 ticket.add_turn()
+
+
+class TakingOver(unittest.TestCase):
+    def test_who_waited_is_served_or_gone(self):
+        for had in range(4):
+            ticket = Waiting("ann", 3, 7)
+            for turn in range(had):
+                ticket.add_turn()
+            for number in (12, 9):
+                ticket.add_number(number)
+            before = whole_state(ticket)
+            self.assertIs(type(as_served(ticket)), Served)
+            self.assertEqual(whole_state(as_served(ticket)), ("ann", ("served", 3, 7, had, 0, [12, 9])))
+            self.assertIs(type(as_gone(ticket)), Gone)
+            self.assertEqual(whole_state(as_gone(ticket)), ("ann", ("gone", 3, 7, had, 3 - had, [12, 9])))
+            self.assertEqual(whole_state(ticket), before)
+
+    def test_they_share_nothing(self):
+        for other_of in (as_served, as_gone):
+            ticket = Waiting("ann", 3, 7)
+            ticket.add_number(12)
+            other = other_of(ticket)
+            before = whole_state(other)
+            ticket.add_number(11)
+            ticket.add_turn()
+            self.assertEqual(whole_state(other), before)
+            other.add_number(10)
+            self.assertEqual(ticket.numbers(), [12, 11])
 
 
 class NothingIsShared(unittest.TestCase):
